@@ -112,7 +112,7 @@ func spoilKinds(l []api.Kind) {
 // R4, R5: what is handed in is left as it was, room and all, be it refused or not; each call tells the same; and what is put
 // into an answer is put into nothing that was handed in.
 func TestHandedIn(t *testing.T) {
-	for _, src := range []string{much, "data T a = A a ; " + "x : T T ; x = (1 : a) ; y : b ; y = 1", "class E a { e : a ; f : b a ; g : a Int }", "class E a { } ; instance E (Int a) { }"} {
+	for _, src := range []string{much, "data T a = A a ; x : T T ; x = (1 : a) ; y : b ; y = 1", "class E a { e : a ; f : b a ; g : a Int }", "class E a { } ; instance E (Int a) { }"} {
 		for _, q := range []api.Program{program(t, src), kinded(t, much)} {
 			p := roomyProgram(q)
 			was := snap(p)
